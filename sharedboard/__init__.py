@@ -1,0 +1,1 @@
+"""Sharedboard: replicated boards that run procedures."""
