@@ -30,6 +30,26 @@ def is_cell_list(value, cells):
     return all([one < other for one, other in zip(value, value[1:])])
 
 
+def is_integer_list(value, many):
+    """Tell whether a value is a list of that many integers."""
+    return isinstance(value, list) and len(value) == many and all([is_integer(item) for item in value])
+
+
+def is_board(value, cells):
+    """Tell whether a value is a board of that many cells."""
+    return isinstance(value, tuple) and len(value) == cells and all([is_integer(item) for item in value])
+
+
+def class_list(procedures):
+    """Return the ascending list of the classes of a book with that many procedures."""
+    return [(procedure, way) for procedure in range(procedures) for way in (0, 1)]
+
+
+def is_class(value, procedures):
+    """Tell whether a value is a class of a book with that many procedures."""
+    return isinstance(value, tuple) and len(value) == 2 and is_index(value[0], procedures) and is_bit(value[1])
+
+
 def copied(value):
     """Return an equal value in which each list and dict is new."""
     if isinstance(value, list):

@@ -3,11 +3,16 @@
 
 def composed(width, one, other):
     """Return the composition of two matrices: "one, then other"."""
-    return [
-        sum([other[width * row + k] * one[width * k + column] for k in range(width)])
-        for row in range(width)
-        for column in range(width)
-    ]
+    rows = [one[start:start + width] for start in range(0, width * width, width)]
+    result = []
+    for start in range(0, width * width, width):
+        total = [0] * width
+        for factor, row in zip(other[start:start + width], rows):
+            # Most matrices of commands have many zeros.
+            if factor != 0:
+                total = [number + factor * more for number, more in zip(total, row)]
+        result.extend(total)
+    return result
 
 
 def applied(width, matrix, vector):
@@ -16,3 +21,18 @@ def applied(width, matrix, vector):
         sum([matrix[width * row + column] * vector[column] for column in range(width)])
         for row in range(width)
     ]
+
+
+def identity_rows(width):
+    """Return the rows of the identity."""
+    return [[1 if row == column else 0 for column in range(width)] for row in range(width)]
+
+
+def joined(rows):
+    """Return the matrix that has these rows."""
+    return [number for row in rows for number in row]
+
+
+def identity(width):
+    """Return the matrix that leaves each vector as it is."""
+    return joined(identity_rows(width))

@@ -6,9 +6,17 @@ import inspect
 import pathlib
 import unittest
 
+import sharedboard.bases
 import sharedboard.books
+import sharedboard.deeds
+import sharedboard.equations
 import sharedboard.errors
 import sharedboard.matrices
+import sharedboard.reach
+import sharedboard.runs
+import sharedboard.senders
+import sharedboard.spaces
+import sharedboard.tables
 
 PACKAGE = pathlib.Path(__file__).resolve().parent.parent / "sharedboard"
 FILES = sorted(PACKAGE.glob("*.py"))
@@ -18,12 +26,66 @@ FUNCTIONS = {
         "composed": ["width", "one", "other"],
         "applied": ["width", "matrix", "vector"],
     },
+    sharedboard.runs: {
+        "played": ["book", "procedure", "bits", "*board", "*n"],
+        "run_matrix": ["book", "procedure", "bits"],
+    },
+    sharedboard.deeds: {
+        "deed_class": ["book", "deed"],
+        "deed_matrix": ["book", "deed"],
+        "done": ["book", "history", "*board"],
+        "boards": ["book", "history", "*board"],
+    },
+    sharedboard.spaces: {
+        "product": ["width", "one", "other"],
+        "image": ["width", "matrices", "vectors"],
+        "vanishing": ["space"],
+    },
+    sharedboard.tables: {
+        "table": ["book"],
+        "body_space": ["book", "table", "cls"],
+        "table_fault": ["book", "thing"],
+    },
+    sharedboard.bases: {
+        "basis_runs": ["book", "cls"],
+        "board_space": ["book", "cls"],
+    },
+    sharedboard.equations: {
+        "decide": ["book", "equation"],
+        "equation_fault": ["book", "equation", "thing"],
+        "holds_fault": ["book", "equations", "thing"],
+        "strikes": ["book"],
+    },
+    sharedboard.senders: {
+        "free": ["book"],
+    },
+    sharedboard.reach: {
+        "reach": ["book", "sender"],
+        "settle": ["book", "sender", "claims"],
+        "sure_fault": ["book", "sender", "claims", "thing"],
+        "history_fault": ["book", "sender", "claims", "thing"],
+        "decide_there": ["book", "sender", "state", "equation"],
+    },
 }
+DEFAULTS = {"played": {"board": None, "n": 0}, "done": {"board": None}, "boards": {"board": None}}
 CLASSES = {
     sharedboard.books: {
         "Book": {
             "__init__": ["self", "cells", "bodies"], "cells": ["self"], "bodies": ["self"],
             "calls": ["self"], "__len__": ["self"], "__getitem__": ["self", "at"], "__eq__": ["self", "other"],
+        },
+    },
+    sharedboard.spaces: {
+        "Space": {
+            "__init__": ["self", "width", "vectors"], "width": ["self"], "basis": ["self"], "within": ["self", "other"],
+            "__len__": ["self"], "__contains__": ["self", "vector"], "__add__": ["self", "other"],
+            "__eq__": ["self", "other"],
+        },
+    },
+    sharedboard.senders: {
+        "Sender": {
+            "__init__": ["self", "book", "ways"], "states": ["self"], "ways": ["self", "state"],
+            "behind": ["self", "state", "classes"], "__eq__": ["self", "other"],
         },
     },
     sharedboard.errors: {
@@ -38,11 +100,19 @@ CLASSES = {
         "NoText": {"__init__": ["self", "line"]},
     },
 }
+# What may be imported from outside of the package.
+LIBRARY = {"math": ("gcd", "lcm", "isqrt"), "heapq": ("heappush", "heappop")}
 # Names that no variable, function, class, import or parameter may have.
 BARRED = set(dir(builtins)) | {
     "register", "mro", "elements", "law", "version_info", "with_traceback", "add_note", "attrgetter",
     "builtins", "gc", "importlib", "methodcaller", "os", "sys",
 }
+
+
+def arguments_of(function):
+    """Return the names of the arguments of a function, a star ahead of those that are handed in by their names."""
+    found = inspect.signature(function).parameters.values()
+    return [("*" if one.kind == one.KEYWORD_ONLY else "") + one.name for one in found]
 
 
 def trees():
@@ -71,7 +141,10 @@ class InterfaceTest(unittest.TestCase):
             for name, arguments in functions.items():
                 found = getattr(module, name)
                 self.assertEqual(found.__module__, module.__name__)
-                self.assertEqual(list(inspect.signature(found).parameters), arguments)
+                self.assertEqual(arguments_of(found), arguments)
+                given = {one.name: one.default for one in inspect.signature(found).parameters.values()
+                         if one.default is not one.empty}
+                self.assertEqual(given, DEFAULTS.get(name, {}))
 
     def test_classes_stand_in_their_files_and_methods_in_their_classes(self):
         for module, classes in CLASSES.items():
@@ -81,7 +154,7 @@ class InterfaceTest(unittest.TestCase):
                 for method, arguments in methods.items():
                     with self.subTest(name, method=method):
                         self.assertIn(method, vars(found))
-                        self.assertEqual(list(inspect.signature(vars(found)[method]).parameters), arguments)
+                        self.assertEqual(arguments_of(vars(found)[method]), arguments)
 
 
 class FileTest(unittest.TestCase):
@@ -118,12 +191,37 @@ class FileTest(unittest.TestCase):
                 node.name if not isinstance(node, ast.Assign) else node.targets[0].id
                 for node in tree.body if isinstance(node, (ast.FunctionDef, ast.ClassDef, ast.Assign))
             }
+        defined.update({module: set(names) for module, names in LIBRARY.items()})
         for name, tree in trees():
             for node in ast.walk(tree):
                 self.assertNotIsInstance(node, ast.Import, name)
                 if isinstance(node, ast.ImportFrom):
                     for alias in node.names:
                         self.assertIn(alias.name, defined[node.module], name)
+                        self.assertIsNone(alias.asname)
+
+    def test_no_two_files_import_from_each_other(self):
+        above = {
+            "sharedboard." + name[:-3]: {node.module for node in tree.body if isinstance(node, ast.ImportFrom)}
+            for name, tree in trees()
+        }
+        done = set(LIBRARY)
+        while len(done) < len(above) + len(LIBRARY):
+            ready = {name for name, modules in above.items() if modules <= done} - done
+            self.assertTrue(ready, "a circle of imports")
+            done |= ready
+
+    def test_no_argument_or_variable_has_the_name_of_a_class_or_an_import_of_its_file(self):
+        for name, tree in trees():
+            taken = {node.name for node in tree.body if isinstance(node, ast.ClassDef)}
+            for node in tree.body:
+                if isinstance(node, ast.ImportFrom):
+                    taken |= {alias.name for alias in node.names}
+            for node in ast.walk(tree):
+                if isinstance(node, ast.arg):
+                    self.assertNotIn(node.arg, taken, (name, node.lineno))
+                if isinstance(node, ast.Name) and isinstance(node.ctx, ast.Store):
+                    self.assertNotIn(node.id, taken, (name, node.lineno))
 
     def test_no_name_is_a_barred_one(self):
         for name, tree in trees():
