@@ -1,9 +1,9 @@
 """Deeds and histories: their classes, their matrices and the boards behind them."""
 
 from sharedboard.errors import NoDeed, NoHistory, NoRun
-from sharedboard.execution import carried_out, executed
+from sharedboard.execution import behind, executed
 from sharedboard.kinds import is_index, is_integer
-from sharedboard.matrices import identity_rows, joined
+from sharedboard.matrices import of_columns, unit
 from sharedboard.runs import given_board
 
 
@@ -30,8 +30,8 @@ def deed_matrix(book, deed):
     run = run_of_deed(book, deed)
     width = book.cells() + 1
     # Ahead of the deed n does not depend on the cells: only the constant has a part in it.
-    rows = carried_out(run.steps, [*identity_rows(width), [deed[2], *[0] * (width - 1)]])
-    return joined(rows[:-1])
+    starts = [[*unit(width, place), deed[2] if place == 0 else 0] for place in range(width)]
+    return of_columns([behind(run.steps, start)[:-1] for start in starts])
 
 
 def steps_of_history(book, history):
@@ -48,18 +48,12 @@ def steps_of_history(book, history):
     return found
 
 
-def board_behind(board, n, steps):
-    """Return the board behind the steps of a deed."""
-    rows = carried_out(steps, [[1], *[[cell] for cell in board], [n]])
-    return tuple([row[0] for row in rows[1:-1]])
-
-
 def boards_along(book, history, board):
     """Return the board ahead of a history and the boards behind each deed of it."""
     deeds = steps_of_history(book, history)
     found = [given_board(book, board)]
     for n, steps in deeds:
-        found.append(board_behind(found[-1], n, steps))
+        found.append(tuple(behind(steps, [1, *found[-1], n])[1:-1]))
     return found
 
 

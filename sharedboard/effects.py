@@ -1,13 +1,13 @@
 """Run matrices of commands, keeps and calls."""
 
-from sharedboard.matrices import composed, identity_rows, joined
+from sharedboard.matrices import composed, identity, unit
 
 
 def replacing(width, place, row):
     """Return the matrix that replaces the number at a place of a run vector by the value of a row."""
-    rows = identity_rows(width)
-    rows[place] = row
-    return joined(rows)
+    result = identity(width)
+    result[width * place:width * place + width] = row
+    return result
 
 
 def command_matrix(width, command):
@@ -22,8 +22,7 @@ def kept_matrix(width, cells, matrix):
     result = list(matrix)
     places = [cell + 1 for cell in cells] + [width - 1]
     for place in places:
-        result[width * place:width * place + width] = [0] * width
-        result[width * place + place] = matrix[0]
+        result[width * place:width * place + width] = [matrix[0] * number for number in unit(width, place)]
     return result
 
 

@@ -138,22 +138,17 @@ def executed(book, procedure, bits):
     return Execution(book, procedure, bits)
 
 
-def mixed(row, columns):
-    """Return the value of a row at each of the columns."""
-    return [sum([factor * number for factor, number in zip(row, column)]) for column in columns]
-
-
-def carried_out(steps, rows):
-    """Return what steps make of rows: for each place of a run vector the list of its numbers."""
-    rows = list(rows)
+def behind(steps, vector):
+    """Return what steps make of a vector with the places of a run vector; its number 0 need not be 1."""
+    numbers = list(vector)
     saved = []
     for step in steps:
         if step[0] == "put":
-            rows[step[1]] = mixed(step[2], list(zip(*rows)))
+            numbers[step[1]] = sum([factor * number for factor, number in zip(step[2], numbers)])
         elif step[0] == "save":
-            saved.append([(place, rows[place]) for place in step[1]])
+            saved.append([(place, numbers[place]) for place in step[1]])
         else:
             noted = saved.pop()
-            for place, numbers in noted:
-                rows[place] = numbers
-    return rows
+            for place, number in noted:
+                numbers[place] = number
+    return numbers

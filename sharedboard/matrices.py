@@ -23,16 +23,16 @@ def applied(width, matrix, vector):
     ]
 
 
-def identity_rows(width):
-    """Return the rows of the identity."""
-    return [[1 if row == column else 0 for column in range(width)] for row in range(width)]
+def unit(width, place):
+    """Return the vector with 1 at a place and 0 elsewhere."""
+    return [1 if place == other else 0 for other in range(width)]
 
 
-def joined(rows):
-    """Return the matrix that has these rows."""
-    return [number for row in rows for number in row]
+def of_columns(columns):
+    """Return the numbers of columns row by row."""
+    return [number for row in zip(*columns) for number in row]
 
 
 def identity(width):
     """Return the matrix that leaves each vector as it is."""
-    return joined(identity_rows(width))
+    return of_columns([unit(width, place) for place in range(width)])

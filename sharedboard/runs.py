@@ -1,9 +1,9 @@
 """Runs: what they do to a board, and their matrices."""
 
 from sharedboard.errors import NoBoard, NoNumber, NoProcedure
-from sharedboard.execution import carried_out, executed
+from sharedboard.execution import behind, executed
 from sharedboard.kinds import is_board, is_index, is_integer
-from sharedboard.matrices import identity_rows, joined
+from sharedboard.matrices import of_columns, unit
 
 
 def run_of(book, procedure, bits):
@@ -28,12 +28,13 @@ def played(book, procedure, bits, *, board=None, n=0):
     first = given_board(book, board)
     if not is_integer(n):
         raise NoNumber()
-    numbers = [row[0] for row in carried_out(run.steps, [[1], *[[cell] for cell in first], [n]])]
+    numbers = behind(run.steps, [1, *first, n])
     return run.way, tuple(numbers[1:-1]), numbers[-1], run.length
 
 
 def run_matrix(book, procedure, bits):
     """Return the tuple (way, matrix, length) of a run."""
     run = run_of(book, procedure, bits)
-    rows = carried_out(run.steps, identity_rows(book.cells() + 2))
-    return run.way, joined(rows), run.length
+    width = book.cells() + 2
+    columns = [behind(run.steps, unit(width, place)) for place in range(width)]
+    return run.way, of_columns(columns), run.length
