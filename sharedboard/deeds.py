@@ -28,24 +28,44 @@ def deed_class(book, deed):
 def deed_matrix(book, deed):
     """Return the board matrix of a deed."""
     run = run_of_deed(book, deed)
-    width = book.cells() + 1
+    return matrix_of_steps(book.cells() + 1, deed[2], run.steps)
+
+
+def matrix_of_steps(width, n, steps):
+    """Return the board matrix of a deed with these steps that carries n."""
     # Ahead of the deed n does not depend on the cells: only the constant has a part in it.
-    starts = [[*unit(width, place), deed[2] if place == 0 else 0] for place in range(width)]
-    return of_columns([behind(run.steps, start)[:-1] for start in starts])
+    starts = [[*unit(width, place), n if place == 0 else 0] for place in range(width)]
+    return of_columns([behind(steps, start)[:-1] for start in starts])
 
 
-def steps_of_history(book, history):
-    """Return the tuple (n, steps) of each deed of a history; raise NoHistory."""
+def runs_of_history(book, history):
+    """Return the executions of the runs of the deeds of a history; raise NoHistory."""
     if not isinstance(history, list):
         raise NoHistory(-1)
     found = []
     for index, deed in enumerate(history):
         try:
-            run = run_of_deed(book, deed)
+            found.append(run_of_deed(book, deed))
         except NoDeed:
             raise NoHistory(index) from None
-        found.append((deed[2], run.steps))
     return found
+
+
+def steps_of_history(book, history):
+    """Return the tuple (n, steps) of each deed of a history; raise NoHistory."""
+    runs = runs_of_history(book, history)
+    return [(deed[2], run.steps) for deed, run in zip(history, runs)]
+
+
+def classes_of_history(book, history):
+    """Return the classes of the deeds of a history; raise NoHistory."""
+    runs = runs_of_history(book, history)
+    return [(deed[0], run.way) for deed, run in zip(history, runs)]
+
+
+def matrices_of_history(book, history):
+    """Return the board matrices of the deeds of a history; raise NoHistory."""
+    return [matrix_of_steps(book.cells() + 1, n, steps) for n, steps in steps_of_history(book, history)]
 
 
 def boards_along(book, history, board):

@@ -28,8 +28,8 @@ class LeastRuns:
         if offer.before == NONE:
             return identity(self._width)
         step = offer.step
-        if offer.join != NONE:
-            step = self._step(offer.join, self._matrices[offer.inner])
+        if offer.link != NONE:
+            step = self._step(offer.link, self._matrices[offer.inner])
         matrix = self._matrices[offer.before]
         return matrix if step is None else composed(self._width, matrix, step)
 

@@ -23,6 +23,14 @@ def applied(width, matrix, vector):
     ]
 
 
+def drawn_back(width, matrix, form):
+    """Return the form whose value on a vector is that of a form on what the matrix gives on the vector."""
+    return [
+        sum([form[row] * matrix[width * row + column] for row in range(width)])
+        for column in range(width)
+    ]
+
+
 def unit(width, place):
     """Return the vector with 1 at a place and 0 elsewhere."""
     return [1 if place == other else 0 for other in range(width)]

@@ -17,16 +17,16 @@ NONE = -1
 class Offer:
     """A run up to the point target: it goes on from the run before by a step.
 
-    The step is that of a move, perhaps with a bit, or that of a join with the run inner of another part.
+    The step is that of a move, perhaps with a bit, or that of the join link with the run inner of another part.
     Runs are named by the numbers of their offers.
     """
 
-    def __init__(self, target, before, step, bit, join, inner):
+    def __init__(self, target, before, step, bit, link, inner):
         self.target = target
         self.before = before
         self.step = step
         self.bit = bit
-        self.join = join
+        self.link = link
         self.inner = inner
 
 

@@ -11,12 +11,20 @@ import sharedboard.books
 import sharedboard.deeds
 import sharedboard.equations
 import sharedboard.errors
+import sharedboard.faultjudges
+import sharedboard.faults
+import sharedboard.late
+import sharedboard.latejudges
+import sharedboard.logs
 import sharedboard.matrices
+import sharedboard.orders
 import sharedboard.reach
 import sharedboard.runs
 import sharedboard.senders
+import sharedboard.sessions
 import sharedboard.spaces
 import sharedboard.tables
+import sharedboard.texts
 
 PACKAGE = pathlib.Path(__file__).resolve().parent.parent / "sharedboard"
 FILES = sorted(PACKAGE.glob("*.py"))
@@ -66,8 +74,51 @@ FUNCTIONS = {
         "history_fault": ["book", "sender", "claims", "thing"],
         "decide_there": ["book", "sender", "state", "equation"],
     },
+    sharedboard.orders: {
+        "conflicts": ["book"],
+        "conflict_shown": ["book", "first", "second"],
+        "weaves": ["book", "order", "one", "other"],
+        "normal": ["book", "order", "history"],
+        "alike_weavings": ["book", "order"],
+    },
+    sharedboard.faults: {
+        "fault_entries": ["book", "sender", "fault"],
+        "fault_after": ["book", "sender", "fault", "many"],
+        "healed": ["book", "sender", "fault"],
+        "fault_run": ["book", "sender", "fault", "many"],
+        "healing": ["book", "sender", "fault"],
+    },
+    sharedboard.faultjudges: {
+        "healed_fault": ["book", "sender", "fault", "thing"],
+        "fault_run_fault": ["book", "sender", "fault", "many", "thing"],
+    },
+    sharedboard.late: {
+        "entries": ["book", "sender"],
+        "after": ["book", "sender", "many"],
+        "level": ["book", "sender", "cells"],
+        "when_sure": ["book", "sender", "claims"],
+        "late_run": ["book", "sender", "claims", "many"],
+        "last_claims": ["book", "sender"],
+    },
+    sharedboard.latejudges: {
+        "from_fault": ["book", "sender", "claims", "k", "thing"],
+        "late_fault": ["book", "sender", "claims", "many", "thing"],
+    },
+    sharedboard.logs: {
+        "same_end": ["book", "one", "other"],
+        "pressed": ["book", "history"],
+        "struck": ["book", "history"],
+        "undone": ["book", "history", "index", "deeds"],
+    },
+    sharedboard.texts: {
+        "book_text": ["book"],
+        "read_book": ["text"],
+    },
 }
-DEFAULTS = {"played": {"board": None, "n": 0}, "done": {"board": None}, "boards": {"board": None}}
+DEFAULTS = {
+    "played": {"board": None, "n": 0}, "done": {"board": None}, "boards": {"board": None},
+    "Session": {"replicas": 2, "order": None}, "deliver": {"at": 0},
+}
 CLASSES = {
     sharedboard.books: {
         "Book": {
@@ -86,6 +137,15 @@ CLASSES = {
         "Sender": {
             "__init__": ["self", "book", "ways"], "states": ["self"], "ways": ["self", "state"],
             "behind": ["self", "state", "classes"], "__eq__": ["self", "other"],
+        },
+    },
+    sharedboard.sessions: {
+        "Session": {
+            "__init__": ["self", "book", "sender", "*replicas", "*order"], "send": ["self", "deed"],
+            "__iadd__": ["self", "other"], "deliver": ["self", "replica", "*at"], "lose": ["self", "replica"],
+            "exchange": ["self", "replica"], "join": ["self", "board"], "__getitem__": ["self", "at"],
+            "mail": ["self", "replica"], "log": ["self"], "__len__": ["self"], "level": ["self"], "settle": ["self"],
+            "tried": ["self", "action"], "__eq__": ["self", "other"],
         },
     },
     sharedboard.errors: {
@@ -115,6 +175,12 @@ def arguments_of(function):
     return [("*" if one.kind == one.KEYWORD_ONLY else "") + one.name for one in found]
 
 
+def defaults_of(function):
+    """Return the default values of a function."""
+    found = inspect.signature(function).parameters.values()
+    return {one.name: one.default for one in found if one.default is not one.empty}
+
+
 def trees():
     return [(file.name, ast.parse(file.read_text())) for file in FILES]
 
@@ -142,9 +208,7 @@ class InterfaceTest(unittest.TestCase):
                 found = getattr(module, name)
                 self.assertEqual(found.__module__, module.__name__)
                 self.assertEqual(arguments_of(found), arguments)
-                given = {one.name: one.default for one in inspect.signature(found).parameters.values()
-                         if one.default is not one.empty}
-                self.assertEqual(given, DEFAULTS.get(name, {}))
+                self.assertEqual(defaults_of(found), DEFAULTS.get(name, {}))
 
     def test_classes_stand_in_their_files_and_methods_in_their_classes(self):
         for module, classes in CLASSES.items():
@@ -155,6 +219,8 @@ class InterfaceTest(unittest.TestCase):
                     with self.subTest(name, method=method):
                         self.assertIn(method, vars(found))
                         self.assertEqual(arguments_of(vars(found)[method]), arguments)
+                        key = name if method == "__init__" else method
+                        self.assertEqual(defaults_of(vars(found)[method]), DEFAULTS.get(key, {}))
 
 
 class FileTest(unittest.TestCase):
