@@ -30,7 +30,7 @@ class ReadmeTest(unittest.TestCase):
                 for expected in told(lines[node.end_lineno - 1]):
                     asked += 1
                     self.assertEqual(found, expected, lines[node.lineno - 1])
-        self.assertGreater(asked, 25)
+        self.assertGreater(asked, 50)
 
 
 if __name__ == "__main__":
