@@ -3,8 +3,11 @@
 from sharedboard.errors import NoDeed, NoHistory, NoRun
 from sharedboard.execution import behind, executed
 from sharedboard.kinds import is_index, is_integer
-from sharedboard.matrices import of_columns, unit
+from sharedboard.matrices import applied, of_columns, unit
 from sharedboard.runs import given_board
+
+MANY_STEPS = 40
+LONG_BITS = 40000
 
 
 def run_of_deed(book, deed):
@@ -36,6 +39,14 @@ def matrix_of_steps(width, n, steps):
     # Ahead of the deed n does not depend on the cells: only the constant has a part in it.
     starts = [[*unit(width, place), n if place == 0 else 0] for place in range(width)]
     return of_columns([behind(steps, start)[:-1] for start in starts])
+
+
+def vector_after(n, steps, vector):
+    """Return what a deed with these steps that carries n makes of a board vector, whose number 0 need not be 1."""
+    # One product of long numbers is quicker than many steps with them.
+    if len(steps) > MANY_STEPS and any([number.bit_length() > LONG_BITS for number in vector]):
+        return applied(len(vector), matrix_of_steps(len(vector), n, steps), vector)
+    return behind(steps, [*vector, n * vector[0]])[:-1]
 
 
 def runs_of_history(book, history):
@@ -73,7 +84,7 @@ def boards_along(book, history, board):
     deeds = steps_of_history(book, history)
     found = [given_board(book, board)]
     for n, steps in deeds:
-        found.append(tuple(behind(steps, [1, *found[-1], n])[1:-1]))
+        found.append(tuple(vector_after(n, steps, [1, *found[-1]])[1:]))
     return found
 
 

@@ -4,7 +4,7 @@ What differs when it is counted with a modulus does differ. So the exact numbers
 asked only if the others seem equal.
 """
 
-from sharedboard.execution import behind
+from sharedboard.deeds import vector_after
 from sharedboard.least import FIRST_MODULUS
 from sharedboard.matrices import composed, identity
 
@@ -20,7 +20,7 @@ def reduced(modulus, numbers):
 def vector_behind(deeds, vector, modulus):
     """Return what deeds, told as tuples (n, steps), make of a board vector."""
     for n, steps in deeds:
-        vector = reduced(modulus, behind(steps, [*vector, n * vector[0]])[:-1])
+        vector = reduced(modulus, vector_after(n, steps, vector))
     return vector
 
 

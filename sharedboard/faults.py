@@ -66,13 +66,7 @@ def fault_after(book, sender, fault, many):
     check_fault(fault)
     check_many(many)
     found = Faults(book, sender, fault)
-    table = found.entries
-    for _ in range(many):
-        more = found.pair_ways.behind(table)
-        if more == table:
-            break
-        table = more
-    return table
+    return found.pair_ways.far_behind(found.entries, many)
 
 
 def healed(book, sender, fault):

@@ -85,9 +85,14 @@ def act(cells, matrix, pair):
     return [matrix[0] * pair[0], *on(pair[1:width]), *on(pair[width:])]
 
 
-def next_table(book, sender, table):
+def deed_matrices(book):
+    """Return a dict from the classes with runs to the matrices of deeds that span their board spaces."""
+    return {cls: [deed_matrix(book, deed) for deed in some_deeds(book, cls)] for cls in running_classes(book)}
+
+
+def next_table(book, sender, table, matrices=None):
     """Return the bases behind one more deed."""
-    matrices = {cls: [deed_matrix(book, deed) for deed in some_deeds(book, cls)] for cls in running_classes(book)}
+    matrices = matrices or deed_matrices(book)
     return spans([
         (act(book.cells(), matrix, pair), other)
         for state, pairs in table.items() for cls, other in sender.ways(state)
@@ -97,9 +102,9 @@ def next_table(book, sender, table):
 
 def tables_behind(book, sender, table, many):
     """Return the list of the tables behind 0, 1, .., many further deeds."""
-    found = [table]
+    found, matrices = [table], deed_matrices(book)
     for _ in range(many):
-        found.append(next_table(book, sender, found[-1]))
+        found.append(next_table(book, sender, found[-1], matrices))
     return found
 
 

@@ -1,8 +1,10 @@
 """Point 39: faulty pairs, and the tables behind further deeds."""
 
+import random
 import unittest
+import unittest.mock
 
-from pairtools import bases, faulty_ends, faulty_table, next_table, pair_of, tables_behind
+from pairtools import bases, deed_matrices, faulty_ends, faulty_table, next_table, pair_of, tables_behind
 from sendertools import let_histories, random_case
 from sharedboard.books import Book
 from sharedboard.deeds import done
@@ -11,7 +13,7 @@ from sharedboard.faults import fault_after, fault_entries
 from sharedboard.reach import reach
 from sharedboard.senders import Sender, free
 
-A, B = (0, 0), (1, 0)
+A, B, C = (0, 0), (1, 0), (2, 0)
 FAULTS = ("lost", "exchanged")
 NO_FAULTS = (None, True, 0, "", "Lost", "lost ", "exchange", ["lost"], ("lost",), {"lost": "lost"}, b"lost", [], {})
 NO_MANY = (True, False, -1, 201, 10 ** 40, None, "0", [0], (0,), {})
@@ -25,6 +27,16 @@ def two_cells():
 def grown_book():
     """Return a book in which A sets cell 0 to 1, and B makes it twice as much."""
     return Book(1, [[("set", 0, [1, 0, 0])], [("set", 0, [0, 2, 0])]])
+
+
+def long_run_book(source):
+    """Return a book of two cells whose deeds of B have runs of 77 commands; some deeds of A and C forget cells."""
+    def command(size=9):
+        return ("set", source.randrange(2), [source.randint(-size, size) for _ in range(3)] + [0])
+
+    calls = [("call", 2, [0, 0, 0, 0], [[], []])] * 7
+    several = [command() for _ in range(7)]
+    return Book(2, [[command(2)], calls, [*several, ("keep", [], [command() for _ in range(source.choice([1, 4]))])]])
 
 
 class EntriesTest(unittest.TestCase):
@@ -179,11 +191,49 @@ class AfterTest(unittest.TestCase):
         book = two_cells()
         sender = Sender(book, [[(A, 1), (B, 1)], [(B, 0)]])
         for fault in FAULTS:
-            table = bases(fault_entries(book, sender, fault))
+            table, matrices = bases(fault_entries(book, sender, fault)), deed_matrices(book)
             for many in range(201):
                 if many % 40 in (0, 1, 39):
                     self.assertEqual(bases(fault_after(book, sender, fault, many)), table)
-                table = next_table(book, sender, table)
+                table = next_table(book, sender, table, matrices)
+
+    def test_numbers_that_become_long(self):
+        longest = 0
+        for seed in (1, 3, 7):
+            book = long_run_book(random.Random(seed))
+            for ways in ([[(A, 1)], [(B, 1)]], [[(A, 1), (C, 0)], [(B, 0), (C, 1)]], [[(A, 1)], [(C, 0)]]):
+                sender = Sender(book, ways)
+                tables = tables_behind(book, sender, bases(fault_entries(book, sender, "lost")), 12)
+                for many in (3, 8, 12):
+                    self.assertEqual(bases(fault_after(book, sender, "lost", many)), tables[many])
+                longest = max([longest, *[abs(number) for pairs in tables[12].values() for pair in pairs for number in pair]])
+        self.assertGreater(longest, 2 ** 2000)
+
+    def test_all_numbers_taken_for_long_ones(self):
+        # The way that goes on without canonical bases has to lead to the same tables.
+        with unittest.mock.patch("sharedboard.pairs.LONG_BITS", 0):
+            for seed in range(36):
+                _, book, sender = random_case(seed, 2)
+                if sender is not None:
+                    for fault in FAULTS:
+                        tables = tables_behind(book, sender, bases(fault_entries(book, sender, fault)), 6)
+                        for many in (1, 2, 3, 6):
+                            self.assertEqual(bases(fault_after(book, sender, fault, many)), tables[many])
+
+    def test_spaces_of_long_numbers_that_stay(self):
+        # A deed of A leaves a great multiple of cell 0 in cell 1, and B leaves all as it is.
+        calls = [("call", 2, [0] * 4, [[], []])]
+        book = Book(2, [
+            [("set", 0, [1, 0, 0, 0]), ("set", 1, [0, 1, 0, 0]), *calls * 6], [],
+            [*[("set", 1, [0, 0, 9, 0])] * 7, ("keep", [], [("set", 1, [0, 0, 9, 0])] * 4)],
+        ])
+        for ways in ([[(A, 1)], [(B, 1)]], [[(A, 1)], [(B, 1), (C, 1)]], [[(A, 1)], [(C, 1)]]):
+            sender = Sender(book, ways)
+            tables = tables_behind(book, sender, faulty_table(book, sender, "lost"), 9)
+            for many in (1, 9):
+                self.assertEqual(bases(fault_after(book, sender, "lost", many)), tables[many])
+        self.assertEqual(fault_after(book, Sender(book, [[(A, 1)], [(B, 1)]]), "lost", 200)[1].basis(),
+                         [[1, 1, 9 ** 66, 0, 0], [0, 0, 0, 1, 9 ** 66]])
 
     def test_states_that_come_by_turns(self):
         book = grown_book()

@@ -81,18 +81,20 @@ class FullTest(unittest.TestCase):
         for state, space in last_claims(book, sender).items():
             self.assertEqual(len(space), 7 - len(tables[3].get(state, [])))
 
-    def check(self, book):
+    def check(self, book, senders):
         self.check_orders(book)
-        for sender in (free(book), every_way(book), some_ways(book)):
+        for sender in senders:
             self.check_faults(book, sender)
             self.check_late(book, sender)
         self.assertTrue(read_book(book_text(book)) == book)
 
     def test_a_full_book(self):
-        self.check(full_book())
+        book = full_book()
+        self.check(book, [every_way(book)])
 
     def test_a_book_with_long_runs(self):
-        self.check(long_book())
+        book = long_book()
+        self.check(book, [free(book), some_ways(book)])
 
 
 class NumberTest(unittest.TestCase):
