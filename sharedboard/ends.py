@@ -9,7 +9,6 @@ from sharedboard.least import FIRST_MODULUS
 from sharedboard.matrices import composed, identity
 
 EXACT = 0
-MODULI = (FIRST_MODULUS, EXACT)
 
 
 def reduced(modulus, numbers):
@@ -26,7 +25,7 @@ def vector_behind(deeds, vector, modulus):
 
 def composed_all(width, matrices, modulus):
     """Return the matrix of matrices one after another."""
-    result = identity(width)
+    result = reduced(modulus, identity(width))
     for matrix in matrices:
         result = reduced(modulus, composed(width, result, matrix))
     return result
@@ -34,7 +33,7 @@ def composed_all(width, matrices, modulus):
 
 def give_the_same(width, one, other):
     """Tell whether two lists of matrices, done one after another, give the same."""
-    for modulus in MODULI:
+    for modulus in (FIRST_MODULUS, EXACT):
         if composed_all(width, one, modulus) != composed_all(width, other, modulus):
             return False
     return True

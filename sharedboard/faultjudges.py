@@ -1,9 +1,10 @@
 """Judges of what is said about faults: tables that show healing, and histories behind which nothing is healed."""
 
 from sharedboard.deeds import steps_of_history
-from sharedboard.ends import MODULI, vector_behind
+from sharedboard.ends import EXACT, vector_behind
 from sharedboard.faultypairs import check_fault, faulty_deeds, other_end
 from sharedboard.faults import Faults
+from sharedboard.least import FIRST_MODULUS
 from sharedboard.matrices import unit
 from sharedboard.pairjudges import are_pair_tables, first_gap, holds_table
 from sharedboard.pairs import check_many, is_level
@@ -38,7 +39,7 @@ def end_level(book, fault, before, after):
     further = steps_of_history(book, after)
     one = [*history, *further]
     other = [*common, *other_end(fault, history[-many:]), *further]
-    for modulus in MODULI:
+    for modulus in (FIRST_MODULUS, EXACT):
         if vector_behind(one, start, modulus) != vector_behind(other, start, modulus):
             return False
     return True

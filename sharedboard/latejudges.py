@@ -2,9 +2,10 @@
 
 from sharedboard.claims import check_pair_claims, hold_on_table, value_of
 from sharedboard.deeds import steps_of_history
-from sharedboard.ends import MODULI, reduced, vector_behind
+from sharedboard.ends import EXACT, reduced, vector_behind
 from sharedboard.joiners import Joiners
 from sharedboard.kinds import is_board
+from sharedboard.least import FIRST_MODULUS
 from sharedboard.matrices import unit
 from sharedboard.pairjudges import are_pair_tables, first_gap, holds_table
 from sharedboard.pairs import check_many, paired
@@ -36,7 +37,7 @@ def end_kept(book, claims, states, thing):
     before = steps_of_history(book, thing[0])
     deeds = steps_of_history(book, thing[2])
     start = unit(book.cells() + 1, 0)
-    for modulus in MODULI:
+    for modulus in (FIRST_MODULUS, EXACT):
         one = vector_behind([*before, *deeds], start, modulus)
         other = vector_behind(deeds, [1, *thing[1]], modulus)
         values = [value_of(form, paired(one, other)) for state in states for form in claims[state]]

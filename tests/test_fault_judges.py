@@ -119,6 +119,20 @@ class HealedFaultTest(unittest.TestCase):
         self.assertIsNone(healed_fault(book, sender, "lost", tables + [tables[3]] * 200))
         self.assertEqual(healed_fault(book, sender, "lost", tables + [tables[3]] * 200 + [{0: Space(7, [])}]), ("next", 203))
 
+    def test_equal_tables_one_after_another(self):
+        # B leaves the cell as it is: what is at state 1 comes to state 0.
+        book = Book(1, [[("set", 0, [0, 0, 1])], []])
+        sender = Sender(book, [[(A, 1)], [(B, 0)]])
+        turned = {0: LEVEL, 1: FULL}
+        self.assertEqual(healed_fault(book, sender, "lost", [turned] * 2), ("next", 0))
+        self.assertEqual(healed_fault(book, sender, "lost", [turned] * 3), ("next", 0))
+        self.assertEqual(healed_fault(book, sender, "lost", [turned] * 4), ("next", 0))
+        ahead = [{0: FULL, 1: FULL}, {0: FULL, 1: LEVEL}]
+        for many in (2, 3, 4):
+            self.assertEqual(healed_fault(book, sender, "lost", ahead + [turned] * many), ("next", 2))
+        self.assertEqual(healed_fault(book, sender, "lost", [*ahead[:1] * 3, *ahead, turned, turned]), ("next", 5))
+        self.assertIsNone(healed_fault(book, sender, "lost", [*ahead, {0: LEVEL, 1: LEVEL}]))
+
     def test_no_fault(self):
         book = put_book()
         for fault in NO_FAULTS:

@@ -333,7 +333,7 @@ class SettleTest(unittest.TestCase):
 class NewTest(unittest.TestCase):
     def test_what_is_returned_is_new(self):
         one = session(a(1), a(1), c)
-        kept = told(one)
+        kept = copy.deepcopy(told(one))
         for find in (one.log, lambda: one.mail(0)):
             first = find()
             self.assertEqual(len({id(bits) for _, bits, _ in first}), 3)
