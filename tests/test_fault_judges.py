@@ -132,6 +132,9 @@ class HealedFaultTest(unittest.TestCase):
             self.assertEqual(healed_fault(book, sender, "lost", ahead + [turned] * many), ("next", 2))
         self.assertEqual(healed_fault(book, sender, "lost", [*ahead[:1] * 3, *ahead, turned, turned]), ("next", 5))
         self.assertIsNone(healed_fault(book, sender, "lost", [*ahead, {0: LEVEL, 1: LEVEL}]))
+        for many in (2, 3, 4):
+            tables = [{0: LEVEL, 1: LEVEL}, *[turned] * many]
+            self.assertEqual(healed_fault(book, sender, "exchanged", tables), ("next", 1))
 
     def test_no_fault(self):
         book = put_book()
